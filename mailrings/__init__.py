@@ -1,0 +1,1 @@
+"""Mailrings: mail rules of many mailboxes, decided for all messages."""
