@@ -72,10 +72,12 @@ def holds(condition, message):
     word, part = condition
     if word == "not":
         return not holds(part, message)
-    if word == "all":
-        return all([holds(inner, message) for inner in part])
-    if word == "any":
-        return any([holds(inner, message) for inner in part])
+    if word in GROUP_WORDS:
+        # The first one that decides is enough; houses have many messages to ask about.
+        for inner in part:
+            if holds(inner, message) != (word == "all"):
+                return word == "any"
+        return word == "all"
     return single_holds(word, part, message)
 
 

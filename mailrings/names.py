@@ -50,6 +50,12 @@ def is_message(value):
     return is_name(sender) and is_name(address) and is_subject(subject) and is_name_tuple(marks)
 
 
+def as_message(message):
+    """Return a message, in which lists may stand for tuples, as the tuple that it is."""
+    sender, address, subject, marks = message
+    return (sender, address, subject, tuple(marks))
+
+
 def message_key(message):
     """Return the tuple by which Python sorts messages in their order."""
     sender, address, subject, marks = message

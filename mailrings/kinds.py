@@ -1,0 +1,123 @@
+"""Kinds: endlessly many messages, told by finitely many that stand for them."""
+
+from itertools import combinations
+
+from mailrings.arrivals import arrival_at
+from mailrings.conditions import marks_of, names_of
+from mailrings.machines import Machine, house_tests
+from mailrings.names import as_message, strange_name
+
+
+def rules_in(house):
+    """Return the list of all rules of a house."""
+    entries = [house.entry_of(name) for name in house.addresses]
+    return [rule for sort, what in entries if sort == "mailbox" for rule in what]
+
+
+def asked_marks(house):
+    """Return the list of the names that conditions of a house ask as marks, ascending."""
+    return sorted(set([mark for condition, _ in rules_in(house) for mark in marks_of(condition)]))
+
+
+def names_in_rule(rule):
+    """Return the list of the names in "from" and of the addresses in "forward" in a rule."""
+    condition, actions = rule
+    return [*names_of(condition), *[action[1] for action in actions if action[0] == "forward"]]
+
+
+def known_names(house):
+    """Return the list of the addresses, members, targets and names in rules that a house knows, ascending."""
+    names = house.addresses
+    for name in house.addresses:
+        sort, what = house.entry_of(name)
+        if sort == "list":
+            names.extend(what[0])
+        elif sort == "alias":
+            names.append(what)
+    for rule in rules_in(house):
+        names.extend(names_in_rule(rule))
+    return sorted(set(names))
+
+
+def mark_sets(marks):
+    """Return the list of the tuples of some of the marks, which are ascending: fewer first, then as Python compares."""
+    return [some for many in range(len(marks) + 1) for some in combinations(marks, many)]
+
+
+class Kinds:
+    """The kinds of a house as it is now, perhaps with further tests, known names and asked marks."""
+
+    def __init__(self, house, *, tests=(), names=(), marks=()):
+        self._house = house.copied()
+        self._addresses = house.addresses
+        self._machine = Machine([*house_tests(house), *tests])
+        self._subjects = self._machine.subjects
+        self._known = {name: True for name in [*known_names(house), *names]}
+        self._asked = {mark: True for mark in [*asked_marks(house), *marks]}
+        self.strange = strange_name(list(self._known))
+        # What becomes of each kind is worked out once, as the same kinds come again and again.
+        self._courses = {}
+
+    @property
+    def kinds(self):
+        """The list of all kinds, in the order of messages."""
+        senders = sorted([*self._known, self.strange])
+        sets = mark_sets(sorted(self._asked))
+        return [
+            (sender, address, subject, marks)
+            for subject in self._subjects for marks in sets for address in self._addresses for sender in senders
+        ]
+
+    def kind(self, message):
+        """Return the kind of a message to an address of the house."""
+        sender, address, subject, marks = message
+        return (
+            sender if sender in self._known else self.strange,
+            address,
+            self._machine.least(subject),
+            tuple([mark for mark in marks if mark in self._asked]),
+        )
+
+    def has(self, name):
+        """Return whether a name is an address of the house."""
+        return self._house.entry_of(name) is not None
+
+    def course(self, kind):
+        """Return (filed, links, left) for a message of a kind.
+
+        Links are tuples (place among the offspring, cut that would take it out, kind of what arrives).
+        """
+        if kind not in self._courses:
+            fired, filed, sent = arrival_at(self._house, kind)
+            links, left = [], []
+            for place, (cut, copy) in enumerate(sent):
+                if self.has(copy[1]):
+                    links.append((place, cut, self.kind(copy)))
+                else:
+                    left.append(copy[1])
+            self._courses[kind] = (filed, links, left)
+        return self._courses[kind]
+
+    def offspring(self, kind):
+        """Return (folders, kinds of the offspring that arrive, addresses for which others leave), in sequence."""
+        filed, links, left = self.course(as_message(kind))
+        return list(filed), [target for _, _, target in links], list(left)
+
+    def links_from(self, starts):
+        """Return the graph of all kinds to which some kinds lead, with the places among the offspring as labels."""
+        found = {}
+        waiting = list(starts)
+        while waiting:
+            kind = waiting.pop()
+            if kind not in found:
+                filed, links, left = self.course(kind)
+                found[kind] = [(place, target) for place, _, target in links]
+                waiting.extend([target for _, _, target in links])
+        return found
+
+
+def kinds_of(house):
+    """Return the kinds of a house as it is now, which are worked out once as long as it does not change."""
+    if "kinds" not in house.memory:
+        house.memory["kinds"] = Kinds(house)
+    return house.memory["kinds"]
