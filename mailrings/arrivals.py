@@ -1,8 +1,8 @@
 """Arrivals: what happens to a message at its address, and what comes of it hop by hop."""
 
 from mailrings.conditions import holds
-from mailrings.errors import BadMessage, UnknownName
-from mailrings.houses import END_WORDS, is_place
+from mailrings.errors import BadMessage
+from mailrings.houses import is_place
 from mailrings.names import as_message, is_message, with_mark
 
 INBOX = "inbox"
@@ -36,7 +36,7 @@ def at_mailbox(rules, message):
                 marks = with_mark(marks, part)
             else:
                 end = word
-        if end in END_WORDS:
+        if end:
             break
     if not filed and end != "drop":
         filed.append(INBOX)

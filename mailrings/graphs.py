@@ -33,7 +33,7 @@ def links_turned(links):
 
 
 def lots_of(links):
-    """Return the lists of nodes that lead to each other, so that each link stays in its list or leads to a later one."""
+    """Return the lists of nodes that lead to each other; each link stays in its list or leads to a later one."""
     back = links_turned(links)
     seen = {}
     lots = []
@@ -42,10 +42,11 @@ def lots_of(links):
         seen[start] = True
         at = 0
         while at < len(lot):
-            for _, node in back[lot[at]]:
-                if node not in seen:
-                    seen[node] = True
-                    lot.append(node)
+            node = lot[at]
+            for _, source in back[node]:
+                if source not in seen:
+                    seen[source] = True
+                    lot.append(source)
             at += 1
         if lot:
             lots.append(lot)

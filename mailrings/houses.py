@@ -57,7 +57,7 @@ def is_place(value, many):
 
 
 def need_rules(rules):
-    """Return rules, of any values, as the tuple that a mailbox can have, or raise the error that tells why it cannot."""
+    """Return rules, of any values, as a tuple, or raise an error if a mailbox cannot have them."""
     for rule in rules:
         if not is_rule(rule):
             raise BadRule(rule)

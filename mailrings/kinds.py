@@ -8,34 +8,30 @@ from mailrings.machines import Machine, house_tests
 from mailrings.names import as_message, strange_name
 
 
-def rules_in(house):
-    """Return the list of all rules of a house."""
-    entries = [house.entry_of(name) for name in house.addresses]
-    return [rule for sort, what in entries if sort == "mailbox" for rule in what]
-
-
 def asked_marks(house):
     """Return the list of the names that conditions of a house ask as marks, ascending."""
-    return sorted(set([mark for condition, _ in rules_in(house) for mark in marks_of(condition)]))
+    entries = [house.entry_of(name) for name in house.addresses]
+    rules = [rule for sort, what in entries if sort == "mailbox" for rule in what]
+    return sorted(set([mark for condition, _ in rules for mark in marks_of(condition)]))
 
 
-def names_in_rule(rule):
-    """Return the list of the names in "from" and of the addresses in "forward" in a rule."""
-    condition, actions = rule
-    return [*names_of(condition), *[action[1] for action in actions if action[0] == "forward"]]
+def names_in_entry(sort, what):
+    """Return the names that an address knows: in "from" and "forward", the members, or the target."""
+    if sort == "list":
+        return what[0]
+    if sort == "alias":
+        return [what]
+    asked = [name for condition, _ in what for name in names_of(condition)]
+    return [*asked, *[action[1] for _, actions in what for action in actions if action[0] == "forward"]]
 
 
 def known_names(house):
-    """Return the list of the addresses, members, targets and names in rules that a house knows, ascending."""
-    names = house.addresses
+    """Return the list of the names that a house knows, its addresses included, ascending."""
+    names = []
     for name in house.addresses:
         sort, what = house.entry_of(name)
-        if sort == "list":
-            names.extend(what[0])
-        elif sort == "alias":
-            names.append(what)
-    for rule in rules_in(house):
-        names.extend(names_in_rule(rule))
+        names.append(name)
+        names.extend(names_in_entry(sort, what))
     return sorted(set(names))
 
 

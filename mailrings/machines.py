@@ -32,7 +32,8 @@ def signs_of(tests):
     used = {sign: True for word, text in tests for sign in text}
     free = [sign for sign in SIGNS if sign not in used][:1]
     signs = sorted([*used, *free])
-    return signs, signs.index(free[0]) if free else 0
+    other = signs.index(free[0]) if free else 0
+    return signs, other
 
 
 class Tails:

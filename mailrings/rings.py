@@ -38,7 +38,7 @@ def ring_from(house, message):
 
 
 def is_walk(house, value):
-    """Return whether any value is a list of messages to addresses of a house, each of the offspring of the one before."""
+    """Return whether any value is a list of messages that arrive, each of the offspring of the one before it."""
     if not isinstance(value, list) or not all([is_message(message) and arrives(house, message) for message in value]):
         return False
     return all([message in offspring_of(house, before) for before, message in zip(value, value[1:])])

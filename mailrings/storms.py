@@ -59,8 +59,8 @@ def storm_rings(house, message):
             inside = links_within(links, lot)
             forks = {kind: True for kind in lot if len(inside[kind]) > 1}
             way, fork = shortest_way(links, kinds_of(house).kind(begin), forks)
-            first, second, *others = rounds_from(links, lot, fork)
-            return way, first, second
+            rounds = rounds_from(links, lot, fork)
+            return way, rounds[0], rounds[1]
     return None
 
 
@@ -108,8 +108,9 @@ def count_after(house, message, hops):
     links = links_behind(house, as_message(message))
     kinds = kinds_of(house)
     places = {kind: place for place, kind in enumerate(links)}
-    # Behind the last place is outside, from where nothing is sent on. The kind of the message has the first place.
-    rows = [[places[target] for _, target in links[kind]] + [len(links)] * len(kinds.course(kind)[2]) for kind in links]
+    # The last row is outside, from where nothing is sent on. The kind of the message has the first one.
+    outside = len(links)
+    rows = [[places[target] for _, target in links[kind]] + [outside] * len(kinds.course(kind)[2]) for kind in links]
     rows.append([])
     counts = {0: 1}
     for _ in range(hops):
@@ -153,7 +154,7 @@ def links_with_cuts(house):
 
 
 def rows_going_round(links):
-    """Return the graph without what cannot come round: a list of rows of (label, place of the row to which it leads)."""
+    """Return a graph without what cannot come round: a list of rows of (label, place of the row to which it leads)."""
     rows = []
     for lot in lots_of(links):
         if goes_round(links, lot):

@@ -17,6 +17,41 @@ FUNCTIONS = {
         "is_condition": "(value)", "holds": "(condition, message)", "tests_of": "(condition)",
         "marks_of": "(condition)", "names_of": "(condition)",
     },
+    "houses": {"is_rule": "(value)"},
+    "arrivals": {"arrive": "(house, message)", "firing": "(house, message)", "after_hops": "(house, message, hops)"},
+    "machines": {"house_tests": "(house)", "apart": "(tests, first, second)"},
+    "kinds": {"asked_marks": "(house)", "known_names": "(house)"},
+    "rings": {
+        "first_endless": "(house)", "ring_from": "(house, message)", "is_ring": "(house, value)", "need_finite": "(house)",
+        "is_rank_paper": "(house, value)", "rank_paper": "(house)",
+    },
+    "numbers": {
+        "arrivals": "(house, message)", "filings": "(house, message)", "leavings": "(house, message)",
+        "measure": "(house, message, what)",
+    },
+    "storms": {
+        "growth": "(house, message)", "walked": "(house, message, places)", "storm_rings": "(house, message)",
+        "are_storm_rings": "(house, message, value)", "count_after": "(house, message, hops)", "fewest_cuts": "(house)",
+    },
+}
+
+LIST = "(self, name, members, *, tag='', mark='', closed=False)"
+CLASSES = {
+    ("houses", "House"): {
+        "__init__": "(self)", "add_mailbox": "(self, name, rules=())", "add_list": LIST, "add_alias": "(self, name, target)",
+        "remove": "(self, name)", "set_rules": "(self, name, rules)", "set_list": LIST, "addresses": "property",
+        "sort_of": "(self, name)", "rules_of": "(self, name)", "list_of": "(self, name)", "target_of": "(self, name)",
+        "copied": "(self)", "__eq__": "(self, other)", "without_rule": "(self, name, place)",
+        "with_rules_changed": "(self, name, place)", "with_cuts": "(self, cuts)",
+    },
+    ("machines", "Machine"): {
+        "__init__": "(self, tests)", "subjects": "property", "least": "(self, subject)", "put": "(self, subject, text)",
+        "results": "(self, subject)", "are_alike": "(self, first, second)",
+    },
+    ("kinds", "Kinds"): {
+        "__init__": "(self, house, *, tests=(), names=(), marks=())", "kinds": "property", "kind": "(self, message)",
+        "offspring": "(self, kind)",
+    },
 }
 
 
@@ -29,6 +64,18 @@ class LayoutTest(unittest.TestCase):
                     function = getattr(module, word)
                     self.assertEqual(function.__module__, "mailrings." + file)
                     self.assertEqual(str(inspect.signature(function)), arguments)
+
+    def test_the_classes(self):
+        for (file, word), methods in CLASSES.items():
+            own = getattr(importlib.import_module("mailrings." + file), word)
+            self.assertEqual(own.__module__, "mailrings." + file)
+            for method, arguments in methods.items():
+                with self.subTest((word, method)):
+                    found = vars(own)[method]
+                    if arguments == "property":
+                        self.assertIsInstance(found, property)
+                    else:
+                        self.assertEqual(str(inspect.signature(found)), arguments)
 
     def test_the_folder_contains_only_files_of_python(self):
         for path in PACKAGE.rglob("*"):
