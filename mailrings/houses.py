@@ -210,8 +210,8 @@ class House:
     def copied(self):
         """Return an equal house."""
         house = House()
-        for name, entry in self._entries.items():
-            house._put(name, entry)
+        for name in self.addresses:
+            house._put(name, self._entries[name])
         return house
 
     def __eq__(self, other):
@@ -262,6 +262,7 @@ class House:
                 raise BadPlace(cut)
             done[cut] = True
         house = House()
-        for name, (sort, what) in self._entries.items():
+        for name in self.addresses:
+            sort, what = self._entries[name]
             house._put(name, entry_after_cuts(name, sort, what, done))
         return house

@@ -156,4 +156,4 @@ def apart(tests, first, second):
         text[:many] for word, text in tests for many in range(len(text) + 1)
         if subject_passes(word, text, text[:many] + first) != subject_passes(word, text, text[:many] + second)
     ]
-    return min(found, key=lambda text: (len(text), text), default=None)
+    return min(found, key=lambda front: (len(front), front), default=None)

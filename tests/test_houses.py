@@ -485,6 +485,7 @@ class CutsTest(Refusals):
         ])
         house.add_list("list", ("box", "ann", "list"), tag="t", mark="m", closed=True)
         house.add_alias("post", "box")
+        house.add_mailbox("none")
         return house
 
     def test_sent(self):
@@ -542,7 +543,8 @@ class CutsTest(Refusals):
             ("sent", "box", 0, {}), ("sent", "box", "0", 1), ("sent", "box", 0, 10 ** 59), ("sent", None, 0, 1),
             ("member", "list", "bob"), ("member", "list"), ("member", "list", "ann", 0), ("member", "box", "ann"),
             ("member", "post", "box"), ("member", "list", ["ann"]), ["member", "list", "ann"], ("member", "list", None),
-            ("member", "list", 0), ("member", {}, "ann"), ("alias", "box"), ("alias", "list"), ("alias", "out"),
+            ("member", "list", 0), ("member", {}, "ann"), ("member", "post", "b"), ("member", "none", "ann"),
+            ("sent", "none", 0, 0), ("alias", "none"), ("alias", "box"), ("alias", "list"), ("alias", "out"),
             ("alias", "post", "box"), ("alias",), ["alias", "post"], ("alias", ["post"]), ("alias", None), ("list", "list"),
             ("mailbox", "box"), ("Alias", "post"), (["alias"], "post"), (None, "post"), ("members", "list", "ann"),
         ):

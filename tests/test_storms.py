@@ -395,6 +395,8 @@ class FewestCutsTest(unittest.TestCase):
         # Three rings, which only the sender who is told as the member "list" goes through.
         self.check(house, 1)
         self.assertEqual(fewest_cuts(house), [("member", "box", "list")])
+        house.set_list("box", ("list", "post", "mail"))
+        self.check(house, 3)
 
     def test_replies(self):
         house = House()
