@@ -10,9 +10,10 @@ REPLY_MARK = "auto"
 
 
 def at_mailbox(rules, message):
-    """Return (places of the rules that fire, folders, copies) of a message that arrives at a mailbox with these rules.
+    """Return (places of the rules that fire, filings, copies) of a message that arrives at a mailbox with these rules.
 
-    Each copy is a tuple of the cut that would take it out and the message that is sent.
+    Each filing is a tuple of the folder and the message as it is then, each copy one of the cut that would take it out
+    and the message that is sent.
     """
     sender, address, subject, marks = message
     fired, filed, sent = [], [], []
@@ -25,7 +26,7 @@ def at_mailbox(rules, message):
             word, part = action[0], action[-1]
             cut = ("sent", address, place, number)
             if word == "file":
-                filed.append(part)
+                filed.append((part, (sender, address, subject, marks)))
             elif word == "forward":
                 sent.append((cut, (sender, part, subject, marks)))
             elif word == "reply":
@@ -39,7 +40,7 @@ def at_mailbox(rules, message):
         if end:
             break
     if not filed and end != "drop":
-        filed.append(INBOX)
+        filed.append((INBOX, (sender, address, subject, marks)))
     return fired, filed, sent
 
 
@@ -57,7 +58,7 @@ def at_list(what, message):
 
 
 def arrival_at(house, message):
-    """Return (places of the rules that fire, folders, copies with their cuts) of a message to an address of a house."""
+    """Return (places of the rules that fire, filings, copies with their cuts) of a message to an address of a house."""
     sender, address, subject, marks = message
     sort, what = house.entry_of(address)
     if sort == "mailbox":
@@ -85,7 +86,7 @@ def arrive(house, message):
     if not is_message(message) or not arrives(house, message):
         raise BadMessage(message)
     fired, filed, sent = arrival_at(house, message)
-    return filed, [copy for cut, copy in sent]
+    return [folder for folder, _ in filed], [copy for cut, copy in sent]
 
 
 def firing(house, message):
@@ -126,3 +127,10 @@ def walk_along(house, message, places):
             return None
         walk.append(sent[place])
     return walk
+
+
+def is_walk(house, value):
+    """Return whether any value is a list of one message or more, each of the offspring of the one before it."""
+    if not isinstance(value, list) or not value or not all([is_message(message) for message in value]):
+        return False
+    return all([message in offspring_of(house, before) for before, message in zip(value, value[1:])])

@@ -1,11 +1,11 @@
 """Rings: messages that come round for ever, and papers which show that none does."""
 
-from mailrings.arrivals import arrives, offspring_of, walk_along
+from mailrings.arrivals import arrives, is_walk, walk_along
 from mailrings.errors import Endless
 from mailrings.graphs import endless_nodes, goes_round, lots_of, rounds_from, shortest_way
 from mailrings.houses import is_count, is_place
 from mailrings.kinds import kinds_of
-from mailrings.names import as_message, is_message, message_key
+from mailrings.names import as_message, message_key
 
 
 def all_links(house):
@@ -37,19 +37,12 @@ def ring_from(house, message):
     return walk_along(house, begin, [*way, *ring]), len(way)
 
 
-def is_walk(house, value):
-    """Return whether any value is a list of messages that arrive, each of the offspring of the one before it."""
-    if not isinstance(value, list) or not all([is_message(message) and arrives(house, message) for message in value]):
-        return False
-    return all([message in offspring_of(house, before) for before, message in zip(value, value[1:])])
-
-
 def is_ring(house, value):
     """Return whether any value is a ring of a house."""
     if not isinstance(value, tuple) or len(value) != 2:
         return False
     walk, place = value
-    if not is_walk(house, walk) or not is_place(place, len(walk) - 1):
+    if not is_walk(house, walk) or not is_place(place, len(walk) - 1) or not arrives(house, walk[-1]):
         return False
     kinds = kinds_of(house)
     return kinds.kind(walk[-1]) == kinds.kind(walk[place])

@@ -1,9 +1,12 @@
 """Houses and messages for tests, drawn with a seed, and what becomes of a message, hop by hop."""
 
+import itertools
 import random
 
 from mailrings.arrivals import arrive
 from mailrings.houses import House
+from mailrings.kinds import asked_marks, known_names
+from mailrings.names import message_key
 
 ALWAYS = ("all", ())
 NEVER = ("any", ())
@@ -150,3 +153,32 @@ def all_cuts(house):
                 numbers = [number for number, action in enumerate(actions) if action[0] in ("forward", "reply")]
                 cuts.extend(("sent", name, place, number) for number in numbers)
     return cuts
+
+
+def without(house, name, places):
+    """Return a house without the rules at some places of a mailbox."""
+    copy = house.copied()
+    copy.set_rules(name, [rule for place, rule in enumerate(house.rules_of(name)) if place not in places])
+    return copy
+
+
+def mailbox_rules(house):
+    """Return the list of the tuples (name, place) of all rules of a house."""
+    mailboxes = [name for name in house.addresses if house.sort_of(name) == "mailbox"]
+    return [(name, place) for name in mailboxes for place in range(len(house.rules_of(name)))]
+
+
+def short_messages(house, addresses, names=(), marks=(), most=3, signs=" abc"):
+    """Return all messages to addresses with short subjects, in order: from some senders, and with some marks.
+
+    The senders are the names that a house knows, the names given, and some others, the marks those that it asks, those
+    given, and another one that is greater than these.
+    """
+    senders = sorted({*known_names(house), *names, "a", "aa", "b", "zzz"})
+    asked = sorted({*asked_marks(house), *marks})
+    sets = [some for many in range(len(asked) + 1) for some in itertools.combinations(asked, many)]
+    subjects = ["".join(told) for many in range(most + 1) for told in itertools.product(signs, repeat=many)]
+    return sorted(
+        [(sender, address, subject, some)
+         for sender in senders for address in sorted(set(addresses)) for subject in subjects for some in [*sets, ("zz",)]],
+        key=message_key)

@@ -33,6 +33,15 @@ FUNCTIONS = {
         "growth": "(house, message)", "walked": "(house, message, places)", "storm_rings": "(house, message)",
         "are_storm_rings": "(house, message, value)", "count_after": "(house, message, hops)", "fewest_cuts": "(house)",
     },
+    "wishes": {
+        "is_wish": "(value)", "broken": "(house, wish)", "wish_holds": "(house, wish, message)",
+        "broken_first": "(house, wishes)",
+    },
+    "firing": {"first_firing": "(house, name, place)", "firings": "(house, name)", "idle_rules": "(house)"},
+    "alike": {
+        "first_different": "(first, second)", "differing": "(first, second, message)", "spare_rules": "(house)",
+        "changeable": "(house)", "simplified": "(house)",
+    },
 }
 
 LIST = "(self, name, members, *, tag='', mark='', closed=False)"
