@@ -42,6 +42,14 @@ FUNCTIONS = {
         "first_different": "(first, second)", "differing": "(first, second, message)", "spare_rules": "(house)",
         "changeable": "(house)", "simplified": "(house)",
     },
+    "readers": {
+        "readers": "(house, addresses, condition)", "way_to": "(house, message, name)",
+        "is_way": "(house, value, name)", "first_leak": "(house, addresses, condition, name)",
+    },
+    "texts": {
+        "condition_text": "(condition)", "rule_text": "(rule)", "house_text": "(house)", "message_text": "(message)",
+        "read_condition": "(text)", "read_rule": "(text)", "read_house": "(text)", "read_message": "(text)",
+    },
 }
 
 LIST = "(self, name, members, *, tag='', mark='', closed=False)"
@@ -61,6 +69,12 @@ CLASSES = {
         "__init__": "(self, house, *, tests=(), names=(), marks=())", "kinds": "property", "kind": "(self, message)",
         "offspring": "(self, kind)",
     },
+    ("works", "Work"): {
+        "__init__": "(self, house)", "send": "(self, message)", "waiting": "(self)", "step": "(self, number)", "filed": "(self)",
+        "left": "(self)", "house_now": "(self)", "change": "(self, house)", "expected": "(self)", "run": "(self, most)",
+        "is_safe_change": "(self, house)", "back": "(self, many)",
+    },
+    ("console", "Console"): {"__init__": "(self)", "__call__": "(self, command)"},
 }
 
 
