@@ -73,7 +73,7 @@ class Console:
             return self._answer_alone(word)
         if word in ("load", "change") and blank:
             return self._answer_for_house(word, self._read_house(rest, command))
-        if word in ("send", "count", "growth") and blank:
+        if word in ("send", "count", "growth"):
             return self._answer_for_message(word, self._read_message(rest, command))
         if word in ("step", "run") and is_number_text(rest):
             return self._answer_for_number(word, int(rest))

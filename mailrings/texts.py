@@ -1,6 +1,6 @@
 """Texts of conditions, rules, houses and messages, and what is read from them."""
 
-from mailrings.conditions import GROUP_WORDS, MOST_DEEP, TEST_WORDS, is_condition
+from mailrings.conditions import GROUP_WORDS, MOST_DEEP, is_condition
 from mailrings.errors import BadText, MailError
 from mailrings.houses import END_WORDS, NAME_WORDS, TEXT_WORDS, House, is_rule
 from mailrings.names import is_message, is_name, is_text
@@ -155,7 +155,7 @@ class Reading:
         return tuple(inner)
 
     def take_condition(self, deep):
-        """Read a condition, at most so deep, and return it; names and numbers that it must not have are not asked."""
+        """Read what is written as a condition, at most so deep, and return it, even if it has what none must have."""
         self.need(deep > 0)
         word = self.take_letters()
         self.need(self.took(" "))
@@ -169,22 +169,20 @@ class Reading:
             return word, inner[0]
         if word in GROUP_WORDS:
             return word, self.take_conditions(deep - 1)
-        self.need(word in TEST_WORDS)
         return word, self.take_quoted()
 
     def take_action(self):
-        """Read an action and return it."""
+        """Read what is written as an action and return it, even if it has what none must have."""
         word = self.take_letters()
         if word in END_WORDS:
             return (word,)
         self.need(self.took(" "))
         if word in NAME_WORDS:
             return word, self.take_name()
-        self.need(word in TEXT_WORDS)
         return word, self.take_quoted()
 
     def take_rule(self):
-        """Read a rule and return it."""
+        """Read what is written as a rule and return it, even if it has what none must have."""
         self.need(self.took("when "))
         condition = self.take_condition(MOST_DEEP)
         self.need(self.took(":"))

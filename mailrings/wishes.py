@@ -66,8 +66,6 @@ def broken(house, wish):
 
 def broken_first(house, wishes):
     """Return (place, message): the least message that breaks some of the wishes, and the first one's place, or None."""
-    for wish in wishes:
-        need_wish(wish)
     found = [broken(house, wish) for wish in wishes]
     least = min([message for message in found if message is not None], key=message_key, default=None)
     # Another wish that this message breaks has no less one, so it has this one, too.

@@ -367,6 +367,15 @@ class SimplifiedTest(unittest.TestCase):
         self.assertEqual(spare_rules(mailbox(MARKING, DROPPING)), [("box", 1)])
         self.assertEqual(self.check(mailbox(MARKING, DROPPING)), 0)
 
+    def test_rules_of_two_mailboxes_of_which_one_must_stay(self):
+        # Both send what comes round to the ring, but it is enough if one of them does.
+        house = House()
+        for name, other in (("p", "q"), ("q", "p")):
+            house.add_mailbox(name, [(ALWAYS, (("forward", "ring"),)), (ALWAYS, (("forward", other), ("drop",)))])
+        house.add_list("ring", ("ring", "out"))
+        self.assertEqual(spare_rules(house), [("p", 0), ("q", 0)])
+        self.assertEqual(self.check(house), 3)
+
     def test_empty_houses(self):
         self.assertEqual(self.check(House()), 0)
         self.assertEqual(simplified(House()), House())

@@ -12,6 +12,7 @@ from mailrings.storms import growth
 from mailrings.texts import house_text, message_text
 from mailrings.works import Work
 from tests.samples import cases, draw_busy_house, draw_message
+from tests.test_numbers import counting
 from tests.values import OTHER_STRINGS, OTHER_VALUES
 
 HOUSE = "list l members n,zed\nmailbox n"
@@ -102,6 +103,14 @@ class CommandsTest(Checks):
         console("load " + "\n".join(lines))
         filed = sum(60 ** power for power in range(20))
         self.assertEqual(console('count a aa - ""'), f"{filed} {filed} {60 ** 20}")
+
+    def test_hundreds_of_figures(self):
+        house = counting(20)
+        console = Console()
+        console("load " + house_text(house))
+        hops = 20 * 64
+        self.assertEqual(console('count ann aa - "aaaaaa"'), f"{(4 ** hops - 1) // 3} 0 {4 ** hops}")
+        self.assertEqual(console('growth ann aa - "aaaaaa"'), "ends")
 
     def test_growth(self):
         console = Console()

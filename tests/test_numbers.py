@@ -31,7 +31,7 @@ def counting(boxes):
     windows = [signs[at:at + 6][::-1] for at in range(len(signs) - 5)]
     following = {window: [front for front, sign in zip(windows, signs[6:]) if sign == window] for window in "ab"}
     house = House()
-    names = [letter * 2 for letter in "abcdefgh"[:boxes]]
+    names = [letter * 2 for letter in "abcdefghijklmnopqrst"[:boxes]]
     for name, target in zip(names, [*names[1:], "out"]):
         rules = []
         for sign, fronts in following.items():

@@ -203,6 +203,11 @@ class BrokenTest(unittest.TestCase):
             (wish("box", ALL, 1, None, ("any", (("all", (("marked", "a"), ("marked", "b"))), ("marked", "n")))),
              ("a", "box", "", ("m", "n"))),
             (wish("box", ALL, 1, None, ("not", ("marked", "m"))), None),
+            # Fewer marks come first, also where there are senders and marks with which the condition never holds.
+            (wish("box", ALL, 0, 0, ("all", (
+                ("not", ("from", ("box",))), ("not", ("marked", "m")),
+                ("any", (("all", (("marked", "a"), ("marked", "b"))), ("marked", "n"), ("all", (("marked", "n"), ("marked", "o")))))))),
+             ("a", "box", "", ("n",))),
         )
 
     def test_many_marks_and_names_that_no_rule_asks(self):
